@@ -1,0 +1,1 @@
+"""Team races: judging orders and combinations, counting passes, making moves."""
