@@ -1,1 +1,1 @@
-"""Team races: judging orders and combinations, counting passes, making moves."""
+"""Team races: judging orders, counting passes, making moves, solving what is left of a match."""

@@ -1,19 +1,25 @@
 """The calls: reading their list, carrying them out, telling the answers."""
 
-from teamsail.game import Game, judge_order, make_move, moves_now, take_back, teams_of
+from teamsail.game import Game, add_pair, drop_pair, exchange_teams, is_boat, is_order, judge_order, make_move
+from teamsail.game import moves_now, set_left, set_order, take_back, teams_of
 from teamsail.race import all_combinations, fewest_passes, is_combination, judge
-from teamsail.script import fill, written
+from teamsail.script import fill, may_be_left, written
+from teamsail.solve import best_line, best_now, play_out, too_many_positions, value_now, values_now
 
 MOST_BYTES = 2000
 NO_MATCH = -1
 OUT_OF_RANGE = -2
 NOT_ALLOWED = -3
+NOTHING_NEW = -4
 NO_TURNS_LEFT = -5
 NOTHING_TO_UNDO = -6
+TOO_MANY_POSITIONS = -7
 TEXT_TOO_LONG = -8
 WRONG_LINE = -1000
 
 LOAD = 0
+TEAMS = (0, 1)
+GOALS = (0, 1, 2)
 
 
 class Desk:
@@ -70,14 +76,14 @@ def call_judge(game, given):
 
 def call_passes(game, given):
     team = given[0]
-    if team not in (0, 1):
+    if team not in TEAMS:
         return [OUT_OF_RANGE]
     return fewest_passes(game.points, game.tie, teams_of(game, game.order), team)
 
 
 def call_table(game, given):
     team = given[0]
-    if team not in (0, 1):
+    if team not in TEAMS:
         return [OUT_OF_RANGE]
     combinations = all_combinations(game.boats)
     told = [len(combinations)]
@@ -108,6 +114,121 @@ def call_undo(game, given):
     return [len(game.past)]
 
 
+def goal_refusal(game, goal):
+    """Why the game is not solved for the goal: a refusal's number, or 0."""
+    if goal not in GOALS:
+        return OUT_OF_RANGE
+    if too_many_positions(game):
+        return TOO_MANY_POSITIONS
+    return 0
+
+
+def call_value(game, given):
+    goal = given[0]
+    refused = goal_refusal(game, goal)
+    if refused != 0:
+        return [refused]
+    return [value_now(game, goal)]
+
+
+def call_best(game, given):
+    goal = given[0]
+    refused = goal_refusal(game, goal)
+    if refused != 0:
+        return [refused]
+    # It is asked behind -7, as without turns left there are never too many positions.
+    if game.left == 0:
+        return [NO_TURNS_LEFT]
+    return best_now(game, goal)
+
+
+def call_values(game, given):
+    goal = given[0]
+    refused = goal_refusal(game, goal)
+    if refused != 0:
+        return [refused]
+    pairs = values_now(game, goal)
+    told = [len(pairs)]
+    for pair in pairs:
+        told.extend(pair)
+    return told
+
+
+def told_play(game, play):
+    """An answer: the moves that were made, the order at the end, its result."""
+    moves = play[0]
+    order = play[1]
+    return [len(moves)] + moves + [len(order)] + order + [judge_order(game, order)[0]]
+
+
+def call_line(game, given):
+    goal = given[0]
+    refused = goal_refusal(game, goal)
+    if refused != 0:
+        return [refused]
+    return told_play(game, best_line(game, goal))
+
+
+def call_duel(game, given):
+    goal = given[0]
+    team = given[1]
+    refused = goal_refusal(game, goal)
+    if refused != 0:
+        return [refused]
+    if team not in TEAMS:
+        return [OUT_OF_RANGE]
+    play = play_out(game, goal, 1 - team, given[2])
+    if play is None:
+        return [NOT_ALLOWED]
+    return told_play(game, play)
+
+
+def call_swap(game, given):
+    exchange_teams(game)
+    return [0]
+
+
+def is_pair(game, pair):
+    return is_boat(game, pair[0]) and is_boat(game, pair[1]) and pair[0] != pair[1]
+
+
+def call_can(game, given):
+    pair = (given[0], given[1])
+    if not is_pair(game, pair):
+        return [OUT_OF_RANGE]
+    if pair in game.pairs:
+        return [NOTHING_NEW]
+    add_pair(game, pair)
+    return [len(game.pairs)]
+
+
+def call_cannot(game, given):
+    pair = (given[0], given[1])
+    if not is_pair(game, pair):
+        return [OUT_OF_RANGE]
+    if pair not in game.pairs:
+        return [NOTHING_NEW]
+    drop_pair(game, pair)
+    return [len(game.pairs)]
+
+
+def call_order(game, given):
+    order = given[0]
+    if not is_order(game, order):
+        return [NOT_ALLOWED]
+    set_order(game, order)
+    return [0]
+
+
+def call_left(game, given):
+    team = given[0]
+    left = given[1]
+    if team not in TEAMS or not may_be_left(left):
+        return [OUT_OF_RANGE]
+    set_left(game, team, left)
+    return [0]
+
+
 # By a call's number: how many whole numbers it has, and how many rows behind these.
 FORMS = {
     0: (0, 1),
@@ -121,6 +242,16 @@ FORMS = {
     8: (0, 0),
     9: (1, 0),
     10: (0, 0),
+    11: (1, 0),
+    12: (1, 0),
+    13: (1, 0),
+    14: (1, 0),
+    15: (2, 1),
+    16: (0, 0),
+    17: (2, 0),
+    18: (2, 0),
+    19: (0, 1),
+    20: (2, 0),
 }
 
 # By a call's number: what carries it out once there is a match.
@@ -135,6 +266,16 @@ CARRIERS = {
     8: call_moves,
     9: call_move,
     10: call_undo,
+    11: call_value,
+    12: call_best,
+    13: call_values,
+    14: call_line,
+    15: call_duel,
+    16: call_swap,
+    17: call_can,
+    18: call_cannot,
+    19: call_order,
+    20: call_left,
 }
 
 

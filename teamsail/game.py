@@ -1,4 +1,4 @@
-"""A match as it stands, its moves, and taking them back."""
+"""A match as it stands, its moves, taking them back, and changing the match."""
 
 from teamsail.race import judge
 
@@ -73,3 +73,54 @@ def take_back(game):
     game.order = before[0]
     game.turn = before[1]
     game.left = before[2]
+
+
+def is_boat(game, number):
+    return number >= 0 and number < 2 * game.boats
+
+
+def is_order(game, row):
+    return sorted(row) == list(range(2 * game.boats))
+
+
+def counterpart(game, boat):
+    """The boat of the other team that is numbered alike within its team."""
+    return boat - game.boats if boat >= game.boats else boat + game.boats
+
+
+# What the past keeps is no past of a match that was changed otherwise than by
+# a move: so each of these forgets it.
+
+def forget_past(game):
+    game.past = []
+
+
+def exchange_teams(game):
+    exchanged = {}
+    for pair in game.pairs:
+        exchanged[(counterpart(game, pair[0]), counterpart(game, pair[1]))] = True
+    game.pairs = exchanged
+    game.order = [counterpart(game, boat) for boat in game.order]
+    game.turn = 1 - game.turn
+    forget_past(game)
+
+
+def add_pair(game, pair):
+    game.pairs[pair] = True
+    forget_past(game)
+
+
+def drop_pair(game, pair):
+    game.pairs.pop(pair)
+    forget_past(game)
+
+
+def set_order(game, order):
+    game.order = order
+    forget_past(game)
+
+
+def set_left(game, turn, left):
+    game.turn = turn
+    game.left = left
+    forget_past(game)

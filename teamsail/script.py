@@ -58,6 +58,10 @@ def number_of(word):
     return int(word)
 
 
+def may_be_left(turns):
+    return turns >= 0 and turns <= MOST_LEFT
+
+
 # Each of these takes the words behind a line's first one into the game, and
 # tells whether they are right.
 
@@ -101,12 +105,9 @@ def take_turn(game, words):
 
 
 def take_left(game, words):
-    if len(words) != 1:
+    if len(words) != 1 or not may_be_left(number_of(words[0])):
         return False
-    left = number_of(words[0])
-    if left < 0 or left > MOST_LEFT:
-        return False
-    game.left = left
+    game.left = number_of(words[0])
     return True
 
 

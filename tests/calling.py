@@ -34,6 +34,7 @@ COMBS = [3]
 WINS = [4]
 MOVES = [8]
 UNDO = [10]
+SWAP = [16]
 
 
 def judge(teams):
@@ -50,6 +51,42 @@ def table(team):
 
 def move(number):
     return [9, number]
+
+
+def value(goal):
+    return [11, goal]
+
+
+def best(goal):
+    return [12, goal]
+
+
+def values(goal):
+    return [13, goal]
+
+
+def line(goal):
+    return [14, goal]
+
+
+def duel(goal, team, moves):
+    return [15, goal, team, len(moves)] + list(moves)
+
+
+def can(a, b):
+    return [17, a, b]
+
+
+def cannot(a, b):
+    return [18, a, b]
+
+
+def order(boats):
+    return [19, len(boats)] + list(boats)
+
+
+def left(team, turns):
+    return [20, team, turns]
 
 
 def ask(*calls):

@@ -3,10 +3,15 @@
 import unittest
 
 from teamsail.desk import answers
-from tests.calling import COMBS, MOVES, RESULT, TEXT, UNDO, WINS, ask, judge, load, match_text, move, passes, table
+from tests.calling import (COMBS, MOVES, RESULT, SWAP, TEXT, UNDO, WINS, ask, best, can, cannot, duel, judge, left, line,
+                           load, match_text, move, order, passes, table, value, values)
 
 MATCH = load(match_text("1 2 3 4", cans=["R2 B1", "B2 B1"]))
-OTHERS = [TEXT, RESULT, COMBS, WINS, judge([0, 0, 1, 1]), passes(0), table(1), MOVES, move(0), UNDO]
+OTHERS = [TEXT, RESULT, COMBS, WINS, judge([0, 0, 1, 1]), passes(0), table(1), MOVES, move(0), UNDO, value(0), best(1),
+          values(2), line(0), duel(2, 0, [0, 0]), SWAP, can(0, 3), cannot(0, 3), order([0, 2, 1, 3]), left(0, 4)]
+NAMES = ["R1", "R2", "R3", "B1", "B2", "B3"]
+# The most that there is to solve: each boat can pass each other one, and the most turns are left.
+MOST = load(match_text("1 2 3 8 9 13", left=5, cans=[a + " " + b for a in NAMES for b in NAMES if a != b]))
 
 
 def in_one_list(calls):
@@ -21,6 +26,18 @@ class Answers(unittest.TestCase):
     def test_how_many_numbers_then_these(self):
         self.assertEqual(answers(MATCH + RESULT + passes(2) + MOVES + judge([0, 1, 0, 1]) + move(0)),
                          [1, 2, 3, 1, 4, 6, 1, -2, 5, 4, 0, 3, 101, 103, 3, 1, 4, 6, 1, 1])
+
+    def test_those_of_solving_and_changing(self):
+        match = load(match_text("1 2 3 4", left=1, cans=["R2 B1"]))
+        self.assertEqual(answers(match + value(0) + best(0) + values(0) + line(0) + duel(0, 0, []) + duel(0, 1, [101])),
+                         [1, 2, 1, 1, 2, 0, 1, 9, 4, 0, 1, 3, 1, 101, 0, 103, 0, 8, 1, 0, 4, 0, 2, 1, 3, 1,
+                          8, 1, 0, 4, 0, 2, 1, 3, 1, 8, 1, 101, 4, 2, 0, 1, 3, 0])
+        self.assertEqual(answers(match + can(0, 3) + cannot(1, 2) + left(1, 20) + order([3, 2, 1, 0]) + SWAP + RESULT),
+                         [1, 2, 1, 2, 1, 1, 1, 0, 1, 0, 1, 0, 3, 1, 3, 7])
+
+    def test_numbers_ahead_of_a_row(self):
+        self.assertEqual(answers(MATCH + duel(0, 1, [2, 2, 2]) + duel(3, 2, []) + order([]) + RESULT),
+                         [1, 2, 1, -3, 1, -2, 1, -3, 3, 1, 4, 6])
 
     def test_an_empty_row(self):
         self.assertEqual(answers(MATCH + judge([]) + load("") + UNDO), [1, 2, 1, -3, 1, -1001, 1, -6])
@@ -43,6 +60,16 @@ class Answers(unittest.TestCase):
         self.assertEqual(len(told), 400)
         self.assertEqual(told[1], told[399])
 
+    def test_four_hundred_calls_that_solve_the_most(self):
+        calls = [value(0), best(1), values(2), line(0), duel(1, 0, [0, 0]), SWAP, cannot(5, 0), can(5, 0),
+                 order([5, 4, 3, 2, 1, 0]), order([0, 3, 1, 4, 2, 5]), left(1, 5), left(0, 5), SWAP, SWAP]
+        told = ask(MOST, *(calls * 29)[:399])
+        self.assertEqual(len(told), 400)
+        for k, answer in enumerate(told[1:]):
+            self.assertGreaterEqual(answer[0], 0)
+            if k >= 2 * len(calls):
+                self.assertEqual(answer, told[1 + k - 2 * len(calls)])
+
 
 class NoMatch(unittest.TestCase):
     def test_each_call_is_refused(self):
@@ -50,7 +77,9 @@ class NoMatch(unittest.TestCase):
             self.assertEqual(answers(call), [1, -1])
 
     def test_it_is_looked_at_ahead_of_all_else(self):
-        for call in (judge([]), judge([5]), passes(2), passes(-1), table(7), move(-4), move(1)):
+        for call in (judge([]), judge([5]), passes(2), passes(-1), table(7), move(-4), move(1), value(3), best(-1),
+                     values(9), line(4), duel(3, 0, []), duel(0, 2, []), duel(0, 0, [1]), can(0, 0), cannot(7, 0),
+                     order([]), left(2, 0), left(0, 21)):
             self.assertEqual(answers(call), [1, -1])
 
     def test_a_refused_load_makes_no_match(self):

@@ -2,7 +2,7 @@
 
 import unittest
 
-from tests.calling import TEXT, UNDO, ask_last, load, match_text, move, text_now
+from tests.calling import SWAP, TEXT, UNDO, ask_last, can, cannot, left, load, match_text, move, order, text_now
 
 
 class Text(unittest.TestCase):
@@ -28,6 +28,20 @@ class Text(unittest.TestCase):
         self.assertEqual(text_now(load(before), move(3)), behind)
         self.assertEqual(text_now(load(before), move(3), move(103)), last)
         self.assertEqual(text_now(load(before), move(3), move(103), UNDO), behind)
+
+    def test_as_other_calls_have_changed_it(self):
+        before = match_text("1 2 3 4", left=4, cans=["R2 B1", "B2 R1"])
+        self.assertEqual(text_now(load(before), SWAP),
+                         match_text("1 2 3 4", order="B1 R1 B2 R2", turn="B", left=4, cans=["B2 R1", "R2 B1"]))
+        self.assertEqual(text_now(load(before), can(0, 1)),
+                         match_text("1 2 3 4", left=4, cans=["R2 B1", "B2 R1", "R1 R2"]))
+        self.assertEqual(text_now(load(before), cannot(1, 2)), match_text("1 2 3 4", left=4, cans=["B2 R1"]))
+        self.assertEqual(text_now(load(before), cannot(1, 2), can(1, 2)),
+                         match_text("1 2 3 4", left=4, cans=["B2 R1", "R2 B1"]))
+        self.assertEqual(text_now(load(before), order([3, 1, 2, 0])),
+                         match_text("1 2 3 4", order="B2 R2 B1 R1", left=4, cans=["R2 B1", "B2 R1"]))
+        self.assertEqual(text_now(load(before), left(1, 20)),
+                         match_text("1 2 3 4", turn="B", left=20, cans=["R2 B1", "B2 R1"]))
 
     def test_what_is_written_is_read_as_the_same(self):
         text = text_now(load("# x\n\n" + match_text("1 2 3 4", cans=["R2 B1"])), move(3))
